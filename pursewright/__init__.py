@@ -1,0 +1,1 @@
+"""Pursewright: programs that carry a purse, and papers of what they cost."""

@@ -1,0 +1,209 @@
+"""What several tests share: programs of the form, made by chance from a fixed seed, and their texts told anew."""
+
+import re
+
+KEPT = ("kind", "def", "to", "let", "make", "call", "name", "case", "end", "pay", "get", "give")
+PIECES = ("give", "make", "call", "name", "pay", "get", "case")
+
+LIST_TEXT = "\n".join(
+    [
+        "kind item one | two item",
+        "kind list nil | more item list",
+        "def copy x list to list : case x nil : let e make nil ; give e"
+        " | more a b : pay 2 ; let c call copy b ; let d make more a c ; give d end",
+        "def same y item to item : let z name y ; get 7 ; give z",
+        "def fresh to list : let e make nil ; give e",
+    ]
+)
+LIST_PROGRAM = (
+    (
+        ("item", (("one", ()), ("two", ("item",)))),
+        ("list", (("nil", ()), ("more", ("item", "list")))),
+    ),
+    (
+        (
+            "copy",
+            (("x", "list"),),
+            "list",
+            (
+                "case",
+                "x",
+                (
+                    ("nil", (), ("make", "e", "nil", (), ("give", "e"))),
+                    (
+                        "more",
+                        ("a", "b"),
+                        (
+                            "pay",
+                            2,
+                            ("call", "c", "copy", ("b",), ("make", "d", "more", ("a", "c"), ("give", "d"))),
+                        ),
+                    ),
+                ),
+            ),
+        ),
+        ("same", (("y", "item"),), "item", ("name", "z", "y", ("get", 7, ("give", "z")))),
+        ("fresh", (), "list", ("make", "e", "nil", (), ("give", "e"))),
+    ),
+)
+
+NAME = "(?!(?:" + "|".join(KEPT) + ")(?![^ ]))[a-z]{1,8}(?![^ ])"
+NAMES = "(?: " + NAME + ")*"
+COINS = "[1-9][0-9]{0,6}"
+ARM = NAME + NAMES + " : BODY"
+BODY = re.compile(
+    "(?<![^ ])(?:"
+    + "|".join(
+        [
+            "give " + NAME,
+            "let " + NAME + " (?:make|call) " + NAME + NAMES + " ; BODY",
+            "let " + NAME + " name " + NAME + " ; BODY",
+            "(?:pay|get) " + COINS + " ; BODY",
+            "case " + NAME + " " + ARM + "(?: [|] " + ARM + ")* end",
+        ]
+    )
+    + ")(?![^ ])"
+)
+MAKER = NAME + NAMES
+KIND_ROW = re.compile("kind " + NAME + " " + MAKER + "(?: [|] " + MAKER + ")*")
+DEF_ROW = re.compile("def " + NAME + "(?: " + NAME + " " + NAME + ")* to " + NAME + " : BODY")
+
+
+def is_kind_row(row):
+    return KIND_ROW.fullmatch(row) is not None
+
+
+def is_function_row(row):
+    """Bodies are folded from the inside out, until none is left to fold."""
+    folded = row
+    while "BODY" not in row:
+        once = BODY.sub("BODY", folded)
+        if once == folded:
+            return DEF_ROW.fullmatch(folded) is not None
+        folded = once
+    return False
+
+
+def first_wrong_row(text):
+    """The number of the first row that is none, None where all are right."""
+    functions = False
+    for number, row in enumerate(text.split("\n") if text else []):
+        if is_function_row(row):
+            functions = True
+        elif functions or not is_kind_row(row):
+            return number
+    return None
+
+
+def text_of(program):
+    kinds = [
+        "kind " + name + " " + " | ".join(" ".join((maker,) + fields) for maker, fields in makers)
+        for name, makers in program[0]
+    ]
+    functions = [
+        " ".join(["def", name] + [x + " " + of for x, of in params] + ["to", kind, ":", body_text(body)])
+        for name, params, kind, body in program[1]
+    ]
+    return "\n".join(kinds + functions)
+
+
+def body_text(body):
+    word = body[0]
+    if word == "give":
+        return "give " + body[1]
+    if word in ("make", "call"):
+        return " ".join(("let", body[1], word, body[2]) + body[3] + (";", body_text(body[4])))
+    if word == "name":
+        return f"let {body[1]} name {body[2]} ; {body_text(body[3])}"
+    if word in ("pay", "get"):
+        return f"{word} {body[1]} ; {body_text(body[2])}"
+    arms = [" ".join((maker,) + names + (":", body_text(inner))) for maker, names, inner in body[2]]
+    return f"case {body[1]} {' | '.join(arms)} end"
+
+
+class Chance:
+    """Programs of the form, sound hardly ever, made by chance."""
+
+    def __init__(self, source):
+        self.source = source
+
+    def name(self):
+        while True:
+            name = "".join(self.source.choice("abcdefgiklmnopty") for _ in range(self.source.randint(1, 8)))
+            if name not in KEPT:
+                return name
+
+    def names(self, most):
+        return tuple(self.name() for _ in range(self.source.randint(0, most)))
+
+    def coins(self):
+        return self.source.choice((1, 9, 10, 4050, 999999, 1000000, 9999999, self.source.randint(1, 9999999)))
+
+    def body(self, depth):
+        word = self.source.choice(PIECES) if depth else "give"
+        if word == "give":
+            return ("give", self.name())
+        if word in ("make", "call"):
+            return (word, self.name(), self.name(), self.names(4), self.body(depth - 1))
+        if word == "name":
+            return ("name", self.name(), self.name(), self.body(depth - 1))
+        if word in ("pay", "get"):
+            return (word, self.coins(), self.body(depth - 1))
+        arms = range(self.source.randint(1, 3))
+        return ("case", self.name(), tuple((self.name(), self.names(3), self.body(depth - 1)) for _ in arms))
+
+    def kind(self):
+        makers = range(self.source.randint(1, 4))
+        return (self.name(), tuple((self.name(), self.names(4)) for _ in makers))
+
+    def function(self):
+        params = tuple((name, self.name()) for name in self.names(4))
+        return (self.name(), params, self.name(), self.body(self.source.randint(0, 6)))
+
+    def program(self):
+        kinds = tuple(self.kind() for _ in range(self.source.randint(0, 3)))
+        return (kinds, tuple(self.function() for _ in range(self.source.randint(0, 3))))
+
+
+def widest_program():
+    """As many kinds, makers, fields, functions, params and pieces as the bounds let be; it is sound."""
+    fields = ("aaaaaaaa", "bbbbbbbb", "cccccccc", "ffffffff")
+    kinds = tuple((of * 8, tuple((of + letter * 7, fields) for letter in "abcdef")) for of in "abcdef")
+    params = (("x", "aaaaaaaa"), ("y", "bbbbbbbb"), ("z", "aaaaaaaa"), ("w", "ffffffff"))
+    bodies = [widest_body()] + [("give", "x")] * 7
+    return (kinds, tuple((of * 8, params, "aaaaaaaa", body) for of, body in zip("abcdefgh", bodies)))
+
+
+def widest_body():
+    """60 pieces, 40 of them one below another."""
+    return six_arms("x", deep_body(17, six_arms("z", deep_body(20, ("give", "x")))))
+
+
+def six_arms(looked, last):
+    """A case over the first kind of the widest program, with names of the one that is looked at."""
+    names = tuple(looked + letter for letter in "abcd")
+    bodies = [deep_body(1, ("give", "x"))] * 5 + [last]
+    return ("case", looked, tuple(("a" + letter * 7, names, body) for letter, body in zip("abcdef", bodies)))
+
+
+def deep_body(pieces, body):
+    """So many pays and gets ahead of the body."""
+    for number in range(pieces):
+        body = ("get" if number else "pay", 9999999 - number, body)
+    return body
+
+
+def count_pieces(body):
+    if body[0] == "give":
+        return 1
+    if body[0] == "case":
+        return 1 + sum(count_pieces(arm[2]) for arm in body[2])
+    return 1 + count_pieces(body[-1])
+
+
+def depth(body):
+    if body[0] == "give":
+        return 1
+    if body[0] == "case":
+        return 1 + max(depth(arm[2]) for arm in body[2])
+    return 1 + depth(body[-1])
