@@ -207,3 +207,65 @@ def depth(body):
     if body[0] == "case":
         return 1 + max(depth(arm[2]) for arm in body[2])
     return 1 + depth(body[-1])
+
+
+class SoundChance(Chance):
+    """Programs made by chance, sound but where a give finds nothing of its kind; names over sorts may be alike."""
+
+    NAMES = tuple("abcdefg")
+
+    def some(self, things, most):
+        return tuple(self.source.choice(things) for _ in range(self.source.randint(0, most)))
+
+    def program(self):
+        kinds = self.source.sample(self.NAMES, self.source.randint(1, 3))
+        free = self.source.sample(self.NAMES, 7)
+        self.kinds = tuple(
+            (kind, tuple((free.pop(), self.some(kinds, 2)) for _ in range(self.source.randint(1, 2)))) for kind in kinds
+        )
+        names = self.source.sample(self.NAMES, self.source.randint(1, 3))
+        self.heads = [(name, self.params(kinds), self.source.choice(kinds)) for name in names]
+        functions = tuple(head + (self.sound_body(head[2], dict(head[1]), 5),) for head in self.heads)
+        return (self.kinds, functions)
+
+    def params(self, kinds):
+        names = self.source.sample(self.NAMES, self.source.randint(1, 3))
+        return tuple((name, self.source.choice(kinds)) for name in names)
+
+    def sound_body(self, kind, bound, depth):
+        fit = [name for name in bound if bound[name] == kind]
+        free = [name for name in self.NAMES + ("h", "i", "j", "k", "l", "m", "n", "o") if name not in bound]
+        word = self.source.choice(("make", "call", "name", "pay", "case") if depth else ("give",))
+        if word in ("make", "call"):
+            return self.use(word, kind, bound, depth, free)
+        if word == "name":
+            looked = self.source.choice(sorted(bound))
+            inner = self.sound_body(kind, dict(bound, **{free[0]: bound[looked]}), depth - 1)
+            return ("name", free[0], looked, inner)
+        if word == "pay":
+            return (self.source.choice(("pay", "get")), self.coins(), self.sound_body(kind, bound, depth - 1))
+        if word == "case":
+            return self.case(kind, bound, depth, free)
+        return ("give", self.source.choice(fit or sorted(bound)))
+
+    def use(self, word, kind, bound, depth, free):
+        if word == "make":
+            options = [(maker, fields, of) for of, makers in self.kinds for maker, fields in makers]
+        else:
+            options = [(name, tuple(of for _, of in params), made) for name, params, made in self.heads]
+        options = [option for option in options if all(of in bound.values() for of in option[1])]
+        if not options:
+            return self.sound_body(kind, bound, depth - 1)
+        used, due, made = self.source.choice(options)
+        names = tuple(self.source.choice([name for name in sorted(bound) if bound[name] == of]) for of in due)
+        fresh = self.source.choice(free)
+        return (word, fresh, used, names, self.sound_body(kind, dict(bound, **{fresh: made}), depth - 1))
+
+    def case(self, kind, bound, depth, free):
+        looked = self.source.choice(sorted(bound))
+        arms = []
+        for maker, fields in dict(self.kinds)[bound[looked]]:
+            names = tuple(self.source.sample(free, len(fields)))
+            inner = dict(bound, **dict(zip(names, fields)))
+            arms.append((maker, names, self.sound_body(kind, inner, max(depth - 2, 0))))
+        return ("case", looked, tuple(arms))

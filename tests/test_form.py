@@ -2,6 +2,7 @@
 
 import ast
 import builtins
+import functools
 import pathlib
 import re
 import unittest
@@ -45,6 +46,7 @@ KEYWORDS = {"sorted": ("key", "reverse"), "min": ("key", "default"), "max": ("ke
             "enumerate": ("start",), "zip": ("strict",)}
 
 
+@functools.cache
 def trees():
     return [(path, ast.parse(path.read_text(encoding="utf-8"))) for path in FILES]
 
@@ -84,14 +86,17 @@ def top_names(tree):
     return names
 
 
+@functools.cache
 def class_names():
     return [node.name for path, node in nodes(ast.ClassDef)]
 
 
+@functools.cache
 def own_methods():
     return [part.name for path, node in nodes(ast.ClassDef) for part in node.body if isinstance(part, ast.FunctionDef)]
 
 
+@functools.cache
 def stored_values():
     return [node.attr for path, node in nodes(ast.Attribute) if isinstance(node.ctx, ast.Store)]
 
@@ -272,14 +277,14 @@ class FormTest(unittest.TestCase):
                     self.assertIn(keyword.arg, KEYWORDS.get(node.func.id, ()), where)
 
     def test_methods_are_called_where_they_stand(self):
-        called = [id(node.func) for path, tree in self.kept for node in ast.walk(tree) if isinstance(node, ast.Call)]
-        for path, tree in self.kept:
+        called = [id(node.func) for path, tree in trees() for node in ast.walk(tree) if isinstance(node, ast.Call)]
+        for path, tree in trees():
             for node in ast.walk(tree):
                 if isinstance(node, ast.Attribute) and node.attr in METHODS + own_methods():
                     self.assertIn(id(node), called, self.at(path, node))
 
     def test_walked_at_once(self):
-        for path, tree in self.kept:
+        for path, tree in trees():
             fine = []
             for node in ast.walk(tree):
                 if isinstance(node, (ast.For, ast.comprehension)):
@@ -296,10 +301,6 @@ class FormTest(unittest.TestCase):
         if isinstance(call.func, ast.Name):
             return call.func.id in ("zip", "enumerate", "reversed", "range")
         return isinstance(call.func, ast.Attribute) and call.func.attr in ("items", "keys", "values")
-
-    @classmethod
-    def setUpClass(cls):
-        cls.kept = trees()
 
 
 if __name__ == "__main__":

@@ -49,6 +49,12 @@ class NameTest(unittest.TestCase):
             for text in (sign, sign + "ab", "ab" + sign, "a" + sign + "b", sign + "kind"):
                 self.no(text)
 
+    def test_every_sign(self):
+        for sign in [chr(number) for number in range(0x180)]:
+            due = "a" <= sign <= "z"
+            for text in (sign, sign + "ab", "ab" + sign, "a" + sign + "b"):
+                self.assertIs(is_name(text), due, repr(text))
+
 
 class CoinsTest(unittest.TestCase):
     def yes(self, text):
@@ -81,6 +87,14 @@ class CoinsTest(unittest.TestCase):
         for sign in others:
             for text in (sign, sign + "12", "12" + sign, "1" + sign + "2"):
                 self.no(text)
+
+    def test_every_sign(self):
+        for sign in [chr(number) for number in range(0x180)]:
+            due = "0" <= sign <= "9"
+            self.assertIs(is_coins(sign), due and sign != "0", repr(sign))
+            self.assertIs(is_coins(sign + "12"), due and sign != "0", repr(sign))
+            for text in ("12" + sign, "1" + sign + "2"):
+                self.assertIs(is_coins(text), due, repr(text))
 
 
 class SameTest(unittest.TestCase):
