@@ -42,6 +42,19 @@ def size(value):
     return len(makers_in(value))
 
 
+def depth(value):
+    """How many makers lie within one another in the value."""
+    deep = 0
+    layer = [value]
+    while layer:
+        deep += 1
+        beneath = []
+        for thing in layer:
+            beneath.extend(thing[1])
+        layer = beneath
+    return deep
+
+
 def counts(value):
     """A dict from each maker that stands in the value to how often it does."""
     often = {}

@@ -2,6 +2,10 @@
 
 import re
 
+from pursewright.errors import NoProgram
+from pursewright.inputs import inputs
+from pursewright.sound import look
+
 KEPT = ("kind", "def", "to", "let", "make", "call", "name", "case", "end", "pay", "get", "give")
 PIECES = ("give", "make", "call", "name", "pay", "get", "case")
 
@@ -269,3 +273,121 @@ class SoundChance(Chance):
             inner = dict(bound, **dict(zip(names, fields)))
             arms.append((maker, names, self.sound_body(kind, inner, max(depth - 2, 0))))
         return ("case", looked, tuple(arms))
+
+
+def chance_value(source, kinds, kind, depth):
+    """A value of the kind with at most so many makers within one another; each kind has makers without fields."""
+    makers = dict(kinds)[kind]
+    flat = [maker for maker in makers if not maker[1]]
+    maker, fields = source.choice(makers if depth > 1 else flat)
+    return (maker, tuple(chance_value(source, kinds, field, depth - 1) for field in fields))
+
+
+def nested(maker, value, times):
+    """The maker, of one field, so many times around the value."""
+    for number in range(times):
+        value = (maker, (value,))
+    return value
+
+
+class RunEnds(Exception):
+    """How a run that is told anew ended ahead of its outermost give."""
+
+
+class RunTold:
+    """A run told anew: a generator for each frame, which yields ahead of each step."""
+
+    def __init__(self, program, f, args, coins):
+        self.functions = program[1]
+        self.purse = coins
+        self.stack = []
+        self.going = self.run(f, args)
+
+    def run(self, f, args):
+        frame = [f, 0, dict(zip([name for name, kind in self.functions[f][1]], args))]
+        self.stack.append(frame)
+        names, piece = frame[2], self.functions[f][3]
+        while True:
+            yield
+            if piece[0] == "give":
+                self.stack.pop()
+                return names[piece[1]]
+            if piece[0] == "call":
+                called = [function[0] for function in self.functions].index(piece[2])
+                names[piece[1]] = yield from self.run(called, [names[name] for name in piece[3]])
+            else:
+                self.do(piece, names)
+            frame[1] += 1
+            piece = self.arm(frame, piece) if piece[0] == "case" else piece[-1]
+
+    def do(self, piece, names):
+        if piece[0] == "make":
+            made = (piece[2], tuple(names[name] for name in piece[3]))
+            if size_told(made) > 200 or depth_told(made) > 60:
+                raise RunEnds(("great", piece[2]))
+            names[piece[1]] = made
+        elif piece[0] == "name":
+            names[piece[1]] = names[piece[2]]
+        elif piece[0] == "pay":
+            if self.purse < piece[1]:
+                raise RunEnds(("short", piece[1]))
+            self.purse -= piece[1]
+        elif piece[0] == "get":
+            self.purse += piece[1]
+
+    def arm(self, frame, piece):
+        maker, parts = frame[2][piece[1]]
+        number = [arm[0] for arm in piece[2]].index(maker)
+        frame[1] += sum(count_pieces(arm[2]) for arm in piece[2][:number])
+        frame[2].update(zip(piece[2][number][1], parts))
+        return piece[2][number][2]
+
+    def frames(self):
+        return [(f, number, dict(names)) for f, number, names in self.stack]
+
+    def turn(self):
+        """None, or the end; what frames and purse are then is theirs behind the turn."""
+        try:
+            next(self.going)
+        except RunEnds as ends:
+            self.stack = []
+            return ends.args[0]
+        except StopIteration as ends:
+            return ("gave", ends.value)
+        return None
+
+
+def size_told(value):
+    return 1 + sum(size_told(part) for part in value[1])
+
+
+def depth_told(value):
+    return 1 + max([0] + [depth_told(part) for part in value[1]])
+
+
+def run_told(program, f, args, coins, most):
+    """All that a run passes, told anew: (frames, purse) ahead of each step, then (end or None, purse, steps)."""
+    run = RunTold(program, f, args, coins)
+    end = run.turn()
+    passed = []
+    while end is None and len(passed) < most:
+        passed.append((run.frames(), run.purse))
+        end = run.turn()
+    return passed, (end, run.purse, len(passed))
+
+
+def sound_programs(source, often, most):
+    """Sound programs made by chance, each with a function's number and args of at most so many makers for it."""
+    told = []
+    while len(told) < often:
+        program = SoundChance(source).program()
+        try:
+            look(program)
+        except NoProgram:
+            continue
+        f = source.randrange(len(program[1]))
+        some = tuple(kind for name, kind in program[1][f][1])
+        options = inputs(program[0], some, source.randint(len(some), most))
+        if options:
+            told.append((program, f, source.choice(options)))
+    return told

@@ -4,7 +4,8 @@ import random
 import unittest
 
 from pursewright.reader import read
-from pursewright.values import counts, is_value, key, size
+from pursewright.values import counts, depth, is_value, key, size
+from tests.helper import chance_value, nested
 
 KINDS = read("kind item one | two item | six\nkind list nil | more item list\nkind pair both list item pair | lone")[0]
 NIL = ("nil", ())
@@ -23,13 +24,6 @@ def values(kinds, kind, depth):
             tuples = [parts + (part,) for parts in tuples for part in values(kinds, field, depth - 1)]
         told.extend((maker, parts) for parts in tuples)
     return told
-
-
-def chance_value(source, kinds, kind, depth):
-    makers = dict(kinds)[kind]
-    flat = [maker for maker in makers if not maker[1]]
-    maker, fields = source.choice(makers if depth > 1 else flat)
-    return (maker, tuple(chance_value(source, kinds, field, depth - 1) for field in fields))
 
 
 def makers_told(value):
@@ -168,6 +162,13 @@ class SizeTest(unittest.TestCase):
         self.assertEqual(counts(ONE), {"one": 1})
         self.assertEqual(counts(LIST), {"more": 2, "two": 1, "one": 2, "nil": 1})
         self.assertEqual(counts(PAIR), {"both": 2, "more": 2, "two": 2, "one": 4, "nil": 2, "lone": 1})
+
+    def test_depth(self):
+        for value, due in ((ONE, 1), (TWO, 2), (NIL, 1), (("more", (ONE, NIL)), 2), (LIST, 3), (PAIR, 4)):
+            self.assertEqual(depth(value), due)
+        self.assertEqual(depth(nested("two", ONE, 20000)), 20001)
+        self.assertEqual(depth(("more", (nested("two", ONE, 7), ("more", (TWO, NIL))))), 9)
+        self.assertEqual(depth(("more", (ONE, ("more", (ONE, ("more", (ONE, NIL))))))), 4)
 
     def test_by_chance(self):
         source = random.Random(7)
