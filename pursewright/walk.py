@@ -32,10 +32,10 @@ class Frame:
 
     def go_on_in_arm(self):
         """Goes on in the arm of a case that is due, its names bound to the parts."""
-        case = self.piece
-        value = self.names[case[1]]
+        piece = self.piece
+        value = self.names[piece[1]]
         between = 0
-        for maker, names, body in case[2]:
+        for maker, names, body in piece[2]:
             if maker == value[0]:
                 self.names.update(list(zip(names, value[1])))
                 self.go_on(body, between)

@@ -1,10 +1,13 @@
 """What several tests share: programs of the form, made by chance from a fixed seed, and their texts told anew."""
 
+import itertools
 import re
 
 from pursewright.errors import NoProgram
 from pursewright.inputs import inputs
+from pursewright.rows import rows, unknowns
 from pursewright.sound import look
+from pursewright.sums import settled
 
 KEPT = ("kind", "def", "to", "let", "make", "call", "name", "case", "end", "pay", "get", "give")
 PIECES = ("give", "make", "call", "name", "pay", "get", "case")
@@ -391,3 +394,54 @@ def sound_programs(source, often, most):
         if options:
             told.append((program, f, source.choice(options)))
     return told
+
+
+def ways(body, above=(), numbers=None):
+    """The way to each piece, in order, told anew: tuples of (number, piece, arm taken there, None at the last)."""
+    numbers = itertools.count() if numbers is None else numbers
+    number = next(numbers)
+    yield above + ((number, body, None),)
+    arms = body[2] if body[0] == "case" else () if body[0] == "give" else ((None, (), body[-1]),)
+    for arm in arms:
+        yield from ways(arm[2], above + ((number, body, arm),), numbers)
+
+
+def bound_on(program, f, way):
+    """All names bound ahead of a way's last piece, told anew: (name, kind, where from) in order.
+
+    Where from is an unknown without its maker.
+    """
+    makers = {maker: (kind, fields) for kind, own in program[0] for maker, fields in own}
+    heads = {function[0]: (g, function[2]) for g, function in enumerate(program[1])}
+    told = [(name, kind, ("param", f, k)) for k, (name, kind) in enumerate(program[1][f][1])]
+    for number, piece, arm in way[:-1]:
+        if piece[0] == "make":
+            told.append((piece[1], makers[piece[2]][0], ("piece", f, number)))
+        elif piece[0] == "name":
+            kind = {name: kind for name, kind, source in told}[piece[2]]
+            told.append((piece[1], kind, ("piece", f, number)))
+        elif piece[0] == "call":
+            told.append((piece[1], heads[piece[2]][1], ("result", heads[piece[2]][0])))
+        elif piece[0] == "case":
+            told.extend((name, kind, ("piece", f, number)) for name, kind in zip(arm[1], makers[arm[0]][1]))
+    return told
+
+
+def rows_in_full(program):
+    """The program's rows as settled takes them: a weight for each unknown."""
+    many = len(unknowns(program))
+    return [(tuple(weights.get(place, 0) for place in range(many)), least) for why, weights, least in rows(program)]
+
+
+def paper_by_chance(source, program):
+    """A paper that is let by, None where there is none: the least for a goal made by chance, and something more."""
+    goals = [tuple(source.choice((0, 1, 1, 3)) for _ in unknowns(program)) for number in range(2)]
+    told = [settled(rows_in_full(program), goal) for goal in goals]
+    if told[0][0] == "none":
+        return None
+    papers = [one[2] for one in told[: source.randint(1, 2)]]
+    # Rows that two papers keep are kept by their sum, over the parts of both.
+    times = [source.randint(1, 3) for paper in papers]
+    parts = sum(often * paper[0] for often, paper in zip(times, papers))
+    numbers = [sum(often * one for often, one in zip(times, column)) for column in zip(*(paper[1] for paper in papers))]
+    return (parts, tuple(numbers))
