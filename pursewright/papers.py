@@ -82,7 +82,7 @@ def holdings_at(program, parts, prices, place):
     n = place[1]
     stand = stands(program, f)[n]
     if place[2]:
-        stand = stand_with(program, f, n, pieces(program[1][f][3])[n], stand)
+        stand = stand_with(program, n, pieces(program[1][f][3])[n], stand)
     free = sum([times * prices[unknown] for unknown, times in stand.free]) - parts * stand.spent
     weights = {}
     for name, kind in stand.kinds.items():

@@ -49,20 +49,20 @@ def rows(program):
         body = pieces(function[3])
         for n, stand in enumerate(stands(program, f)):
             if body[n][0] in PAYING:
-                done = stand_with(program, f, n, body[n], stand)
+                done = stand_with(program, n, body[n], stand)
                 told.append((("purse", f, n), summed(places, done.free), done.spent))
                 if body[n][0] == "give":
-                    told.extend(use_rows(program, (f, n), places, done))
+                    told.extend(use_rows(program, n, places, done))
     return told
 
 
-def use_rows(program, give, places, stand):
-    """The rows behind the purse row of a give: its place, a pair of function and piece, and what stands with it."""
+def use_rows(program, n, places, stand):
+    """The rows behind the purse row of a give, piece n; stand: what stands with it."""
     told = []
     for name, kind in stand.kinds.items():
         for maker in within(program[0], kind):
             pairs = [(family + (maker,), times) for family, times in stand.holdings[name]]
-            told.append((("use",) + give + (name, maker), summed(places, pairs), 0))
+            told.append((("use", stand.f, n, name, maker), summed(places, pairs), 0))
     return told
 
 

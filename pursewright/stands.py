@@ -9,13 +9,14 @@ from pursewright.places import bound_by, spots
 
 
 class Stand:
-    """What stands at a place in function f, in terms of unknowns.
+    """What stands at a place in function f.
 
     Free is a tuple of (unknown, times), spent the pays less the gets so far, kinds a dict of all names bound so far,
-    in order, to their kinds, and holdings one to tuples of (family, times).
+    in order, to their kinds, and holdings one of these names to tuples of (family, times).
     """
 
-    def __init__(self, free, spent, kinds, holdings):
+    def __init__(self, f, free, spent, kinds, holdings):
+        self.f = f
         self.free = free
         self.spent = spent
         self.kinds = kinds
@@ -31,44 +32,42 @@ def stands(program, f):
             told.append(stand_at_begin(program, f))
         else:
             piece = found[spot.above].piece
-            reached = stand_with(program, f, spot.above, piece, told[spot.above])
-            told.append(stand_behind(program, (f, spot.above), piece, spot.arm, reached))
+            met = stand_with(program, spot.above, piece, told[spot.above])
+            told.append(stand_behind(program, spot.above, piece, spot.arm, met))
     return told
 
 
 def stand_at_begin(program, f):
     params = program[1][f][1]
     holdings = [(param[0], ((("param", f, k), 1),)) for k, param in enumerate(params)]
-    return Stand(((("first", f), 1),), 0, dict(params), dict(holdings))
+    return Stand(f, ((("first", f), 1),), 0, dict(params), dict(holdings))
 
 
-def stand_with(program, f, n, piece, stand):
-    """What stands when piece n of function f is done, of a call when its frame is begun: what it takes is gone."""
+def stand_with(program, n, piece, stand):
+    """What stands with piece n being done, of a call with its frame begun: what it takes is gone."""
     holdings = dict(stand.holdings)
-    for name, family in uses(program, f, n, piece):
+    for name, family in uses(program, stand.f, n, piece):
         holdings[name] = holdings[name] + ((family, -1),)
-    free = stand.free + taken_free(program, f, n, piece)
-    return Stand(free, stand.spent + spent_by(piece), stand.kinds, holdings)
+    free = stand.free + taken_free(program, stand.f, n, piece)
+    return Stand(stand.f, free, stand.spent + spent_by(piece), stand.kinds, holdings)
 
 
-def stand_behind(program, place, piece, arm, stand):
-    """What stands behind a piece that is done (of a case in this arm): what it brings is there."""
-    f = place[0]
-    n = place[1]
+def stand_behind(program, n, piece, arm, stand):
+    """What stands behind piece n (of a case in this arm), once it stood so with it: what it brings is there."""
+    family = ("piece", stand.f, n)
     free = stand.free
-    family = ("piece", f, n)
     if piece[0] == "call":
         g = number_of(program[1], piece[2])
-        free = free + ((("last", g), 1),)
         family = ("result", g)
+        free = free + ((("last", g), 1),)
     elif piece[0] == "case":
         free = free + ((family + (arm[0],), 1),)
     kinds = dict(stand.kinds)
     holdings = dict(stand.holdings)
-    for name, kind in bound_by(program, piece, arm, kinds):
+    for name, kind in bound_by(program, piece, arm, stand.kinds):
         kinds[name] = kind
         holdings[name] = ((family, 1),)
-    return Stand(free, stand.spent, kinds, holdings)
+    return Stand(stand.f, free, stand.spent, kinds, holdings)
 
 
 def uses(program, f, n, piece):
