@@ -4,7 +4,7 @@ from pursewright.errors import NoPaper
 from pursewright.kinds import within
 from pursewright.places import pieces
 from pursewright.rows import rows, unknowns
-from pursewright.stands import stand_with, stands
+from pursewright.stands import stand_at, stand_with
 from pursewright.values import counts
 
 
@@ -22,7 +22,11 @@ def checked(program, paper):
 
 def asks(program, paper, f, args):
     """What the paper asks for args of function f, in parts."""
-    prices = prices_of(program, paper)
+    return asked(program, prices_of(program, paper), f, args)
+
+
+def asked(program, prices, f, args):
+    """What is asked for args of function f by these prices."""
     total = prices[("first", f)]
     for k, param in enumerate(program[1][f][1]):
         total += weight_of(weights_by(program, prices, param[1], [(("param", f, k), 1)]), args[k])
@@ -80,7 +84,7 @@ def holdings_at(program, parts, prices, place):
     """What stands free, and a dict from names to the weights by which they hold; place: (f, n, whether it waits)."""
     f = place[0]
     n = place[1]
-    stand = stands(program, f)[n]
+    stand = stand_at(program, f, n)
     if place[2]:
         stand = stand_with(program, n, pieces(program[1][f][3])[n], stand)
     free = sum([times * prices[unknown] for unknown, times in stand.free]) - parts * stand.spent

@@ -5,7 +5,7 @@ Both are told by unknowns, each with how often it counts. A family is an unknown
 """
 
 from pursewright.functions import number_of
-from pursewright.places import bound_by, spots
+from pursewright.places import bound_by, spots, way
 
 
 class Stand:
@@ -35,6 +35,17 @@ def stands(program, f):
             met = stand_with(program, spot.above, piece, told[spot.above])
             told.append(stand_behind(program, spot.above, piece, spot.arm, met))
     return told
+
+
+def stand_at(program, f, n):
+    """What stands where piece n of function f is done next."""
+    found = spots(program[1][f][3])
+    numbers = way(program[1][f][3], n)
+    stand = stand_at_begin(program, f)
+    for above, beneath in zip(numbers, numbers[1:]):
+        piece = found[above].piece
+        stand = stand_behind(program, above, piece, found[beneath].arm, stand_with(program, above, piece, stand))
+    return stand
 
 
 def stand_at_begin(program, f):

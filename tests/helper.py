@@ -2,6 +2,7 @@
 
 import itertools
 import re
+from fractions import Fraction
 
 from pursewright.errors import NoProgram
 from pursewright.inputs import inputs
@@ -427,10 +428,64 @@ def bound_on(program, f, way):
     return told
 
 
-def rows_in_full(program):
-    """The program's rows as settled takes them: a weight for each unknown."""
+def rows_in_full(program, some=None):
+    """The program's rows, or some others over its unknowns, as settled takes them: a weight for each unknown."""
     many = len(unknowns(program))
-    return [(tuple(weights.get(place, 0) for place in range(many)), least) for why, weights, least in rows(program)]
+    told = rows(program) if some is None else some
+    return [(tuple(weights.get(place, 0) for place in range(many)), least) for why, weights, least in told]
+
+
+def goal_in_full(program, f, goal):
+    """The goal of a least paper for function f, with a number for each unknown."""
+    left = list(goal)
+    told = [left.pop(0) if one[:2] in (("param", f), ("first", f)) else 0 for one in unknowns(program)]
+    assert not left
+    return tuple(told)
+
+
+def dot(one, other):
+    return sum(a * b for a, b in zip(one, other, strict=True))
+
+
+def price_is_shown(rows, goal, price, shares):
+    """Told anew, of shares that are as many as the rows."""
+    bottom, numbers = shares
+    if price[1] < 1 or bottom < 1 or [number for number in numbers if number < 0]:
+        return False
+    taken = [dot(numbers, [weights[place] for weights, least in rows]) for place in range(len(goal))]
+    if [place for place, number in enumerate(goal) if taken[place] > bottom * number]:
+        return False
+    return Fraction(dot(numbers, [least for weights, least in rows]), bottom) == Fraction(*price)
+
+
+def none_is_shown(rows, many, numbers):
+    """Told anew, of shares that are as many as the rows, which are over so many unknowns."""
+    if [number for number in numbers if number < 0]:
+        return False
+    taken = [dot(numbers, [weights[place] for weights, least in rows]) for place in range(many)]
+    return max(taken, default=0) <= 0 and dot(numbers, [least for weights, least in rows]) > 0
+
+
+def ring_is_shown(program, shares, ring):
+    """Told anew, of pairs that are there."""
+    names = [function[0] for function in program[1]]
+    steps = set()
+    for (why, weights, least), share in zip(rows(program), shares):
+        if share > 0:
+            way = [way for way in ways(program[1][why[1]][3]) if way[-1][0] == why[2]][0]
+            steps |= {(why[1], number): names.index(piece[2]) for number, piece, arm in way if piece[0] == "call"}.items()
+    onward = ring[1:] + ring[:1]
+    return bool(ring) and all((tuple(pair), after[0]) in steps for pair, after in zip(ring, onward))
+
+
+def small_programs(source, often, least=0):
+    """Sound programs made by chance of at most 60 unknowns, at least so many, and 160 rows, those of wishes too."""
+    told = []
+    while len(told) < often:
+        program, f, args = sound_programs(source, 1, 5)[0]
+        if least <= len(unknowns(program)) <= 60 and len(rows(program)) <= 140:
+            told.append((program, f, args))
+    return told
 
 
 def paper_by_chance(source, program):
@@ -445,3 +500,14 @@ def paper_by_chance(source, program):
     parts = sum(often * paper[0] for often, paper in zip(times, papers))
     numbers = [sum(often * one for often, one in zip(times, column)) for column in zip(*(paper[1] for paper in papers))]
     return (parts, tuple(numbers))
+
+
+def spare_paper(source, program):
+    """A paper that is let by with things to spare, where there is one: rows ask for more than they would."""
+    for tries in range(3):
+        full = [(weights, least + source.choice((0, 0, 1, 5))) for weights, least in rows_in_full(program)]
+        told = settled(full, tuple(source.choice((0, 1, 1, 3)) for _ in unknowns(program)))
+        if told[0] == "least":
+            times = source.randint(1, 3)
+            return (times * told[2][0], tuple(times * number for number in told[2][1]))
+    return paper_by_chance(source, program)
