@@ -40,10 +40,10 @@ def ring_of(calls):
 
 def going_on(calls):
     """A dict from functions to a call of theirs, each going on to a function that is a key too."""
-    left = dict([(pair[0], pair) for pair in calls])
-    many = len(calls) + 1
-    # Calls of functions that go on nowhere are left out, until none is left of those.
-    while len(left) < many:
-        many = len(left)
-        left = dict([(pair[0], pair) for pair, called in calls.items() if called in left and pair[0] in left])
-    return left
+    left = list(calls)
+    while True:
+        onward = dict([(pair[0], pair) for pair in left])
+        kept = [pair for pair in left if calls[pair] in onward]
+        if len(kept) == len(left):
+            return onward
+        left = kept

@@ -30,17 +30,17 @@ def laid_written_out(program, f, n):
         raise NoTurn()
     g = number_of(program[1], call[2])
     called = called_anew(program, f, g)
-    behind = laid[n + 1:end_of(laid, n)]
+    end = end_of(laid, n)
     told = laid[:n]
     for k, param in enumerate(program[1][g][1]):
         told.append(naming(called[param[0]], call[3][k], ((("param", g, k), 1),)))
     for piece, source in laid_out(program, g):
         if piece[0] == "give":
             told.append(naming(call[1], called[piece[1]], ((("result", g), 1),)))
-            told.extend(behind)
+            told.extend(laid[n + 1:end])
         else:
             told.append((renamed(piece, called), source))
-    return told + laid[end_of(laid, n):]
+    return told + laid[end:]
 
 
 def called_anew(program, f, g):

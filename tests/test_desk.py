@@ -208,7 +208,8 @@ class RefusedTest(unittest.TestCase):
 
     def test_blanks(self):
         for row in (" run fresh 3", "run fresh 3 ", "run  fresh 3", "run fresh  3", "", " ", "  ", "run copy 3  nil",
-                    " need fresh", "need fresh ", "need  fresh", "least fresh 1 ", "least  fresh 1", "run copy 3 nil "):
+                    " need fresh", "need fresh ", "need  fresh", "least fresh 1 ", "least  fresh 1", "run copy 3 nil ",
+                    "run copy 3 ", "need copy ", "run pick 3 one ", "run pick 3  nil", "need pick  nil", "need pick one "):
             self.refused(NoRow, TEXT, row)
         for row in ("run\tfresh 3", "run\nfresh 3", "run fresh 3\n", "\nrun fresh 3", "run fresh\n3", "run fresh 3\n "):
             self.refused(NoRow, TEXT, row)

@@ -3,12 +3,14 @@
 import math
 import random
 import unittest
+from unittest import mock
 
 from pursewright.least import all_rows, least
 from pursewright.papers import checked
 from pursewright.places import pieces
 from pursewright.reader import read
 from pursewright.rows import rows, unknowns
+from pursewright.sums import settled
 from tests.helper import (
     LIST_PROGRAM, dot, goal_in_full, none_is_shown, price_is_shown, ring_is_shown, rows_in_full, small_programs,
 )
@@ -265,6 +267,20 @@ class LeastTest(unittest.TestCase):
         told = self.ask(program, 0, (1, 1, 1, 1, 1))
         self.assertEqual(told[0], "none")
         self.assertTrue(set(told[2]) <= {(0, 4), (0, 5)})
+
+    def test_shares_of_wishes_of_nought_hinder_no_ring(self):
+        program = read("kind lone only\ndef f x lone to lone : pay 4 ; let y call g x ; let q call g x ; let z call f y ;"
+                       " give z\ndef g x lone to lone : give x")
+        self.assertEqual(self.ring(program, 1, (1, 1), (0, 0)), [(0, 3)])
+        # Uses of x twice over leave room for a share of what is wished of g's result; leasts of all these are 0.
+        more = {("use", 0, 4, "x", "only"): 1, ("use", 0, 4, "y", "only"): 1, ("use", 1, 0, "x", "only"): 2, ("wish", 1, 0): 1}
+        whys = [row[0] for row in all_rows(program, 1, None)]
+
+        def with_more(rows, goal):
+            return ("none", tuple(share + more.get(why, 0) for why, share in zip(whys, settled(rows, goal)[1])))
+
+        with mock.patch("pursewright.least.settled", with_more):
+            self.assertEqual(self.ring(program, 1, (1, 1), (0, 0)), [(0, 3)])
 
     def test_a_wish_and_a_ring(self):
         program = lone("pay 4 ; let y call f x ; give y")
